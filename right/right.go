@@ -1,22 +1,51 @@
-// Package right tells whether planes, and their parts, are as they must be.
+// Package right tells whether planes and pictures, and their parts, are as they must be.
 package right
 
 import "darkslide/api"
 
-// Side: whether there may be so many columns, or rows.
-func Side(n int) bool {
-	return n >= 1 && n <= api.MaxSide
-}
-
-// Plane: whether the plane is right (doc/03-diff.md, C1).
-func Plane(p api.Plane) bool {
-	if !Side(p.W) || !Side(p.H) || len(p.P) != p.W*p.H {
-		return false
-	}
-	for _, v := range p.P {
-		if v < 0 || v > api.Top {
+// Within: whether all of these numbers are from low to high.
+func Within(low, high int, numbers ...int) bool {
+	for _, n := range numbers {
+		if n < low || n > high {
 			return false
 		}
 	}
 	return true
+}
+
+// Side: whether there may be so many columns, or rows.
+func Side(n int) bool {
+	return Within(1, api.MaxSide, n)
+}
+
+// Phase: whether there is such a phase of a sensor.
+func Phase(n int) bool {
+	return Within(0, 3, n)
+}
+
+// Plane: whether the plane is right (doc/03-diff.md, C1).
+func Plane(p api.Plane) bool {
+	return size(p.W, p.H, len(p.P)) && Within(0, api.Top, p.P...)
+}
+
+// Picture: whether the picture is right (doc/05-mosaic.md, E1).
+func Picture(q api.Picture) bool {
+	if !size(q.W, q.H, len(q.P)) {
+		return false
+	}
+	for _, v := range q.P {
+		if !Within(0, api.Top, v.R, v.G, v.B) {
+			return false
+		}
+	}
+	return true
+}
+
+// Held: the nearest number to n that a sample, or a pixel's part, may be.
+func Held(n int) int {
+	return min(max(n, 0), api.Top)
+}
+
+func size(w, h, many int) bool {
+	return Side(w) && Side(h) && many == w*h
 }
