@@ -15,6 +15,16 @@ func (g Grid) Has(s api.Spot) bool {
 	return s.X >= 0 && s.X < g.W && s.Y >= 0 && s.Y < g.H
 }
 
+// HasAll: whether each of the places is one of the grid's.
+func (g Grid) HasAll(l []api.Spot) bool {
+	for _, s := range l {
+		if !g.Has(s) {
+			return false
+		}
+	}
+	return true
+}
+
 // Nearest: the grid's place that is nearest to this one.
 func (g Grid) Nearest(s api.Spot) api.Spot {
 	return api.Spot{X: min(max(s.X, 0), g.W-1), Y: min(max(s.Y, 0), g.H-1)}

@@ -32,6 +32,20 @@ func TestHasAndNearest(t *testing.T) {
 	}
 }
 
+func TestHasAll(t *testing.T) {
+	g := grid.Grid{W: 3, H: 2}
+	if !g.HasAll(nil) || !g.HasAll(slices.Collect(g.Places())) {
+		t.Error("it has not all of its places")
+	}
+	for _, s := range []api.Spot{{X: 3}, {Y: 2}, {X: -1}, {Y: -1}} {
+		for _, l := range [][]api.Spot{{s}, {s, {}}, {{}, {X: 2, Y: 1}, s}} {
+			if g.HasAll(l) {
+				t.Errorf("it has %v", l)
+			}
+		}
+	}
+}
+
 func TestPlacesAreRowByRow(t *testing.T) {
 	g := grid.Grid{W: 3, H: 2}
 	want := []api.Spot{{X: 0, Y: 0}, {X: 1, Y: 0}, {X: 2, Y: 0}, {X: 0, Y: 1}, {X: 1, Y: 1}, {X: 2, Y: 1}}

@@ -1,6 +1,7 @@
 package right_test
 
 import (
+	"math"
 	"testing"
 
 	"darkslide/api"
@@ -66,6 +67,56 @@ func TestPhase(t *testing.T) {
 	for n, want := range map[int]bool{-1: false, 0: true, 1: true, 2: true, 3: true, 4: false} {
 		if got := right.Phase(n); got != want {
 			t.Errorf("phase %d: %v", n, got)
+		}
+	}
+}
+
+func TestLevels(t *testing.T) {
+	for _, c := range []struct {
+		black [4]int
+		white int
+		want  bool
+	}{
+		{[4]int{}, 1, true},
+		{[4]int{9, 0, 9, 0}, 10, true},
+		{[4]int{65534, 65534, 65534, 65534}, 65535, true},
+		{[4]int{}, 65536, false},
+		{[4]int{}, 0, false},
+		{[4]int{}, -1, false},
+		{[4]int{}, math.MinInt, false},
+		{[4]int{10, 0, 0, 0}, 10, false},
+		{[4]int{0, 0, 0, 10}, 10, false},
+		{[4]int{0, -1, 0, 0}, 10, false},
+		{[4]int{0, 0, 65535, 0}, 65535, false},
+	} {
+		if got := right.Levels(c.black, c.white); got != c.want {
+			t.Errorf("%v and %d: %v", c.black, c.white, got)
+		}
+	}
+}
+
+func TestGainsMatrixAndAmount(t *testing.T) {
+	for n, want := range map[int]bool{-1: false, 0: true, 65535: true, 65536: false} {
+		for i := range 3 {
+			gains := [3]int{}
+			gains[i] = n
+			if got := right.Gains(gains); got != want {
+				t.Errorf("gains %v: %v", gains, got)
+			}
+		}
+	}
+	for n, want := range map[int]bool{-32769: false, -32768: true, 0: true, 32768: true, 32769: false} {
+		for i := range 9 {
+			m := [9]int{}
+			m[i] = n
+			if got := right.Matrix(m); got != want {
+				t.Errorf("matrix %v: %v", m, got)
+			}
+		}
+	}
+	for n, want := range map[int]bool{-1: false, 0: true, 1024: true, 1025: false} {
+		if got := right.Amount(n); got != want {
+			t.Errorf("amount %d: %v", n, got)
 		}
 	}
 }
